@@ -1,0 +1,1 @@
+"""Merging unsorted queues by the least head."""

@@ -1,0 +1,36 @@
+"""Runs each example of the interface exactly as tests/examples.md gives it."""
+
+import pathlib
+import unittest
+
+EXAMPLES = pathlib.Path(__file__).with_name("examples.md")
+
+
+def blocks_in(text):
+    """The examples: for each, its commands and the line with what they return."""
+    found = []
+    for block in text.split("```\n")[1::2]:
+        *commands, answer = block.strip().split("\n")
+        found.append(([command.removeprefix(">>> ") for command in commands], answer))
+    return found
+
+
+def answer_of(commands):
+    """What the last of the commands returns, written as in an example."""
+    names = {}
+    for command in commands[:-1]:
+        exec(command, names)
+    return repr(eval(commands[-1], names))
+
+
+class ExamplesTest(unittest.TestCase):
+    def test_the_examples(self):
+        examples = blocks_in(EXAMPLES.read_text(encoding="utf-8"))
+        self.assertEqual(len(examples), 9)
+        for commands, answer in examples:
+            with self.subTest(commands=commands):
+                self.assertEqual(answer_of(commands), answer)
+
+
+if __name__ == "__main__":
+    unittest.main()
