@@ -1,11 +1,22 @@
 """Lists of numbers, families of queues, their blocks and their results."""
 
-from leastheads.errors import InvalidFamily, InvalidNumbers
+from leastheads.errors import InvalidFamily, InvalidIndex, InvalidNumbers
 
 
 def is_integer(value):
     """Return whether any value is an integer (True and False are none)."""
     return isinstance(value, int) and not isinstance(value, bool)
+
+
+def is_index(value, many):
+    """Return whether any value is an integer from 0 to `many` minus 1."""
+    return is_integer(value) and 0 <= value < many
+
+
+def require_index(value, many):
+    """Raise InvalidIndex if the value is not an integer from 0 to `many` minus 1."""
+    if not is_index(value, many):
+        raise InvalidIndex("not one of the indices or numbers from 0 on")
 
 
 def is_numbers(value):
@@ -15,6 +26,11 @@ def is_numbers(value):
     if not all([is_integer(number) for number in value]):
         return False
     return len(set(value)) == len(value)
+
+
+def is_ascending(value):
+    """Return whether any value is an ascending list of different integers."""
+    return is_numbers(value) and value == sorted(value)
 
 
 def is_family(value):
@@ -67,6 +83,14 @@ def merge_queues(queues):
     for record, index, block in placed_blocks(queues):
         result.extend(block)
     return result
+
+
+def spread_blocks(blocks, assignment, many):
+    """Return the family of `many` queues with each block in its queue of the assignment."""
+    family = [[] for _ in range(many)]
+    for block, index in zip(blocks, assignment):
+        family[index].extend(block)
+    return family
 
 
 def blocks_of(numbers):

@@ -1,6 +1,7 @@
 """What the tests share: promise checks around a call, values and references."""
 
 import copy
+import itertools
 import random
 import unittest
 
@@ -50,17 +51,54 @@ class PromiseCase(unittest.TestCase):
         self.assertEqual(result, kept)
 
     def refuses(self, error, function, *arguments):
-        """Check that a call raises exactly this error and changes no argument."""
+        """Check that a call raises exactly this error, also again, and changes no argument.
+
+        Return what the error keeps.
+        """
         before = snapshot(arguments)
+        kept = []
         for _ in range(2):
             with self.assertRaises(ValueError) as caught:
                 function(*arguments)
-            self.assertIs(type(caught.exception), error)
-        self.assertEqual(snapshot(arguments), before)
+            self.assertIs(type(caught.exception), error, (function, arguments))
+            kept.append(copy.deepcopy(vars(caught.exception)))
+            for part in vars(caught.exception).values():
+                for found in lists_in(part):
+                    found.append("changed")
+        self.assertEqual(snapshot(arguments), before, "an argument changed")
+        self.assertEqual(kept[0], kept[1], "a later error differs")
+        return kept[0]
+
+    def refuses_in_order(self, function, good, faults):
+        """Check the errors of a call with wrong arguments, one, two and more at once.
+
+        `good` are arguments of a call without an error. Each fault is the place of an
+        argument, wrong values for it, and their error; they stand in the order of the
+        interface.
+        """
+        self.outcome(function, *good)
+        for place, values, error in faults:
+            for value in values:
+                self.refuses(error, function, *with_wrong(good, [place], [value]))
+        for size in range(2, len(faults) + 1):
+            for chosen in itertools.combinations(faults, size):
+                places = [place for place, _, _ in chosen]
+                if len(set(places)) == size:
+                    for turn in range(12):
+                        wrong = [values[turn * 11 % len(values)] for _, values, _ in chosen]
+                        self.refuses(chosen[0][2], function, *with_wrong(good, places, wrong))
 
     def says(self, answer, function, *arguments):
         """Check that a call returns True or False itself."""
         self.assertIs(self.outcome(function, *arguments), answer, arguments)
+
+
+def with_wrong(good, places, values):
+    """The good arguments with these values in these places."""
+    arguments = list(good)
+    for place, value in zip(places, values):
+        arguments[place] = value
+    return arguments
 
 
 def nested(depth, core):
@@ -81,13 +119,23 @@ class Thing:
     """An object of no kind that the document knows."""
 
 
+class Same:
+    """An object that is equal to everything."""
+
+    def __eq__(self, other):
+        return True
+
+    def __hash__(self):
+        return 1
+
+
 # Neither a list of numbers nor a family nor a plan.
 NEVER = [
     None, True, False, 0, 1, -1, 10 ** 29, "", "0", "3,1", "[0]", b"", b"0",
     (), (0,), (3, 1), ((0,),), ([0],), ([3, 1], []), {}, {0: 0}, {0: [0]}, {"a": 1},
-    set(), {0}, frozenset([0]), range(2), Thing(), Thing, len, ValueError("x"),
+    set(), {0}, frozenset([0]), range(2), Thing(), Thing, Same(), len, ValueError("x"),
     [None], [True], [False], [0, True], [0, False], [1, True], ["0"], [""], [b"0"],
-    [()], [(0,)], [(0, 1)], [{}], [{0: 0}], [Thing()], [{0}], [range(1)],
+    [()], [(0,)], [(0, 1)], [{}], [{0: 0}], [Thing()], [Same()], [0, Same()], [[Same()]], [{0}], [range(1)],
     [0, None], [0, "1"], [0, (1,)], [0, [True]], [0, [None]], [0, []], [[], 0],
     [[None]], [[True]], [[False]], [["0"]], [[()]], [[(0,)]], [[{}]], [[Thing()]], [[[]]],
     [[0], (1,)], [(0,), [1]], [[0], None], [[0], True], [[0], "1"], [[0], {}], [[0], [True]],
@@ -96,6 +144,20 @@ NEVER = [
     nested_tuples(20, 0), nested(10, nested_tuples(10, 0)), nested_tuples(10, nested(10, 0)),
     [0, nested(18, 1)], [nested(18, 0), 1],
 ]
+
+BIG = 10 ** 30 - 1
+
+NO_NUMBERS = NEVER + [
+    [[]], [[0]], [[3, 1], []], [[0, 1], [2]], [0, [1]], [3, 3], [0, 1, 0], [BIG, 0, BIG],
+    [True, 2], [2, False], list(range(150)) + [0], (3, 1), nested(2, 0),
+]
+NO_FAMILIES = NEVER + [
+    [], [0], [3, 1], [[0], 1], [0, [1]], [[3], [3]], [[3, 3]], [[], [1, 2, 1]], [[1], [], [2, 1]],
+    [[True]], [[1], [True]], [[0], [False]], [[[1]]], [[1], [[2]]], [[3, 1], ()], ([3, 1],),
+    [[number] for number in range(150)] + [[7]], nested(3, 0), nested(8, 0),
+]
+# Also what Python takes for an integer: True and False.
+NO_INTEGERS = [value for value in NEVER if isinstance(value, bool) or not isinstance(value, int)]
 
 SIZES = [0, 1, 2, 3, 5, 8, 13, 40, 150]
 KINDS = ["random", "ascending", "descending", "nearly"]
@@ -153,4 +215,42 @@ def records_by_definition(numbers):
     return [
         number for at, number in enumerate(numbers)
         if all(number > earlier for earlier in numbers[:at])
+    ]
+
+
+def blocks_by_search(numbers):
+    """The blocks of a list, from its records."""
+    begins = [numbers.index(record) for record in records_by_definition(numbers)] + [len(numbers)]
+    return [numbers[begin:end] for begin, end in zip(begins, begins[1:])]
+
+
+def families_by_search(result, many):
+    """All families of that many queues with the result, by ascending assignments.
+
+    They are found as point 7 says, among all families of these numbers.
+    """
+    found = []
+    for order in itertools.permutations(result):
+        for cuts in itertools.combinations_with_replacement(range(len(order) + 1), many - 1):
+            ends = [0, *cuts, len(order)]
+            family = [list(order[begin:end]) for begin, end in zip(ends, ends[1:])]
+            if merged_by_heads(family) == list(result):
+                found.append(family)
+    return sorted(found, key=lambda family: assignment_by_search(family, result))
+
+
+def assignment_by_search(family, result):
+    """The assignment of a family: for each record of its result the index of its queue."""
+    return [
+        [record in queue for queue in family].index(True)
+        for record in records_by_definition(result)
+    ]
+
+
+def small_results(most):
+    """Lists of numbers in every order, up to that many numbers."""
+    return [
+        list(numbers)
+        for size in range(most + 1)
+        for numbers in itertools.permutations(range(-1, size - 1))
     ]

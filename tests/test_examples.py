@@ -3,6 +3,8 @@
 import pathlib
 import unittest
 
+from leastheads.errors import HeadsError
+
 EXAMPLES = pathlib.Path(__file__).with_name("examples.md")
 
 
@@ -16,17 +18,21 @@ def blocks_in(text):
 
 
 def answer_of(commands):
-    """What the last of the commands returns, written as in an example."""
+    """What the last of the commands returns or raises, written as in an example."""
     names = {}
     for command in commands[:-1]:
         exec(command, names)
-    return repr(eval(commands[-1], names))
+    try:
+        return repr(eval(commands[-1], names))
+    except HeadsError as error:
+        kept = ", ".join(f"{field}={value!r}" for field, value in vars(error).items())
+        return f"raises {type(error).__name__}({kept})" if kept else f"raises {type(error).__name__}"
 
 
 class ExamplesTest(unittest.TestCase):
     def test_the_examples(self):
         examples = blocks_in(EXAMPLES.read_text(encoding="utf-8"))
-        self.assertEqual(len(examples), 9)
+        self.assertEqual(len(examples), 35)
         for commands, answer in examples:
             with self.subTest(commands=commands):
                 self.assertEqual(answer_of(commands), answer)

@@ -15,6 +15,27 @@ INTERFACE = {
         "merged": ["family"], "assignment_of": ["family"], "same_result": ["family", "other"],
     },
     "plans": {"is_plan": ["value"], "inputs_of": ["plan"], "merger_results": ["family", "plan"]},
+    "places": {
+        "place_of": ["family", "number"], "number_at": ["family", "place"],
+        "comes_before": ["family", "one", "other"], "first_difference": ["family", "other"],
+    },
+    "backwards": {
+        "count_families": ["result", "many"], "nth_family": ["result", "many", "number"],
+        "rank_of": ["family"], "count_with_lengths": ["result", "lengths"],
+        "nth_with_lengths": ["result", "lengths", "number"], "blocks_to_move": ["family", "other"],
+    },
+    "facts": {
+        "are_facts": ["result", "value"], "satisfies": ["result", "facts", "value"],
+        "contradiction_of": ["result", "facts"], "is_contradiction": ["result", "facts", "value"],
+        "count_satisfying": ["result", "facts"], "nth_satisfying": ["result", "facts", "number"],
+        "follows": ["result", "facts", "fact"],
+    },
+    "dealing": {
+        "misplaced_pair": ["given", "wanted"], "are_compatible": ["given", "wanted", "one", "other"],
+        "is_dealing": ["given", "wanted", "value"], "fewest_queues": ["given", "wanted"],
+        "fewest_dealing": ["given", "wanted"], "are_incompatible": ["given", "wanted", "value"],
+        "incompatible_blocks": ["given", "wanted"],
+    },
 }
 
 BUILTINS = set(

@@ -4,28 +4,17 @@ import itertools
 import random
 import unittest
 
-from helpers import KINDS, NEVER, SIZES, PromiseCase, Thing
-from helpers import merged_by_heads, nested, records_by_definition, some_families, some_numbers
+from helpers import BIG, KINDS, NO_FAMILIES, NO_NUMBERS, SIZES, PromiseCase, Thing
+from helpers import merged_by_heads, records_by_definition, some_families, some_numbers
 from leastheads.errors import InvalidFamily, InvalidNumbers
 from leastheads.queues import (
     assignment_of, blocks_of, is_family, is_numbers, merged, same_result,
 )
 
-BIG = 10 ** 30 - 1
-
 NUMBERS = [[], [0], [-1], [3, 1], [-2, 5, 0], [BIG, -BIG, 0], list(range(150)), list(range(150, 0, -1))]
-NO_NUMBERS = NEVER + [
-    [[]], [[0]], [[3, 1], []], [[0, 1], [2]], [0, [1]], [3, 3], [0, 1, 0], [BIG, 0, BIG],
-    [True, 2], [2, False], list(range(150)) + [0], (3, 1), nested(2, 0),
-]
 FAMILIES = [
     [[]], [[], []], [[0]], [[3, 1], []], [[], [3, 1]], [[-1], [-2]], [[BIG], [-BIG, 0]],
     [[] for _ in range(150)], [[number] for number in range(150)], [list(range(150))],
-]
-NO_FAMILIES = NEVER + [
-    [], [0], [3, 1], [[0], 1], [0, [1]], [[3], [3]], [[3, 3]], [[], [1, 2, 1]], [[1], [], [2, 1]],
-    [[True]], [[1], [True]], [[0], [False]], [[[1]]], [[1], [[2]]], [[3, 1], ()], ([3, 1],),
-    [[number] for number in range(150)] + [[7]], nested(3, 0), nested(8, 0),
 ]
 
 
