@@ -3,7 +3,7 @@
 from leastheads.backwards import digits_of, power
 from leastheads.errors import Contradiction, InvalidFacts
 from leastheads.queues import (
-    is_ascending, is_family, is_index, is_integer, merge_queues, require_index, require_numbers,
+    are_indices, is_family, is_index, is_integer, merge_queues, require_index, require_numbers,
     split_blocks, spread_blocks,
 )
 
@@ -136,9 +136,7 @@ def contradiction_of(result, facts):
 def is_contradiction(result, facts, value):
     """Return whether any value is a contradiction."""
     require_facts(result, facts)
-    if not is_ascending(value) or not all([is_index(index, len(facts)) for index in value]):
-        return False
-    if not contradict(result, [facts[index] for index in value]):
+    if not are_indices(value, len(facts)) or not contradict(result, [facts[index] for index in value]):
         return False
     for out in value:
         if contradict(result, [facts[index] for index in value if index != out]):

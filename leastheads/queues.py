@@ -33,6 +33,11 @@ def is_ascending(value):
     return is_numbers(value) and value == sorted(value)
 
 
+def are_indices(value, many):
+    """Return whether any value is an ascending list of different indices below `many`."""
+    return is_ascending(value) and all([is_index(index, many) for index in value])
+
+
 def is_family(value):
     """Return whether any value is a family."""
     if not isinstance(value, list) or len(value) == 0:

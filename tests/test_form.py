@@ -36,6 +36,24 @@ INTERFACE = {
         "fewest_dealing": ["given", "wanted"], "are_incompatible": ["given", "wanted", "value"],
         "incompatible_blocks": ["given", "wanted"],
     },
+    "opens": {
+        "certain_beginning": ["family", "open_queues"], "exhausted_queues": ["family", "open_queues"],
+        "is_continuation": ["family", "open_queues", "value"],
+        "is_witness": ["family", "open_queues", "value"], "witness_of": ["family", "open_queues"],
+    },
+    "nets": {"Net": ["plan"]},
+    "texts": {
+        "show_family": ["family"], "read_family": ["text"], "show_plan": ["plan"], "read_plan": ["text"],
+    },
+    "desk": {"Desk": []},
+}
+CLASSES = {
+    ("nets", "Net"): {
+        "put_number": ["source", "number"], "close_source": ["source"], "arrive_from": ["lane"],
+        "settle_all": [], "result_so_far": [], "on_the_way": [], "waits_for": ["merger"],
+        "held_at": ["merger"], "is_finished": [], "family_so_far": [], "undo_last": [],
+    },
+    ("desk", "Desk"): {"execute": ["row"]},
 }
 
 BUILTINS = set(
@@ -55,6 +73,15 @@ def sources():
     return [(path, path.read_text(encoding="utf-8")) for path in sorted(PACKAGE.glob("*.py"))]
 
 
+def own_methods():
+    """The names of all methods of the package's classes."""
+    return {
+        method.name
+        for _, text in sources() for node in ast.walk(ast.parse(text)) if isinstance(node, ast.ClassDef)
+        for method in node.body if isinstance(method, ast.FunctionDef)
+    }
+
+
 class InterfaceTest(unittest.TestCase):
     def test_names_and_arguments(self):
         for name, functions in INTERFACE.items():
@@ -63,6 +90,13 @@ class InterfaceTest(unittest.TestCase):
                 found = getattr(module, function)
                 self.assertEqual(found.__module__, f"leastheads.{name}")
                 self.assertEqual(list(inspect.signature(found).parameters), parameters)
+
+    def test_methods_stand_in_the_class_itself(self):
+        for (module, name), methods in CLASSES.items():
+            found = getattr(importlib.import_module(f"leastheads.{module}"), name)
+            for method, parameters in methods.items():
+                self.assertTrue(inspect.isfunction(vars(found)[method]), method)
+                self.assertEqual(list(inspect.signature(vars(found)[method]).parameters), ["self", *parameters])
 
 
 class FormTest(unittest.TestCase):
@@ -95,6 +129,7 @@ class FormTest(unittest.TestCase):
                     self.assertEqual(node.level, 0, path)
 
     def test_calls_are_of_own_functions_and_plain_builtins(self):
+        methods = own_methods()
         for path, text in sources():
             tree = ast.parse(text)
             own = {node.name for node in ast.walk(tree) if isinstance(node, (ast.FunctionDef, ast.ClassDef))}
@@ -105,7 +140,7 @@ class FormTest(unittest.TestCase):
                 if isinstance(node, ast.Call) and isinstance(node.func, ast.Name):
                     self.assertIn(node.func.id, own | BUILTINS, path)
                 elif isinstance(node, ast.Call):
-                    self.assertIn(node.func.attr, own | METHODS, path)
+                    self.assertIn(node.func.attr, methods | METHODS, path)
 
     def test_no_floats_and_no_words_outside_the_language(self):
         for path, text in sources():
