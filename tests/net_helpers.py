@@ -174,34 +174,30 @@ def told(net, call):
         return type(error)
 
 
-def some_call(rng, plan_size, mergers, numbers):
+def some_call(rng, many, mergers, numbers):
     """A call that may change a net with so many sources and mergers; often an error."""
-    word = rng.choice(["put"] * 5 + ["close"] + ["arrive"] * 8 + ["settle", "undo"])
-    if word == "put":
-        return ("put_number", rng.randrange(plan_size), rng.choice(numbers))
-    if word == "close":
-        return ("close_source", rng.randrange(plan_size))
-    if word == "arrive":
-        if rng.random() < 0.5:
-            return ("arrive_from", ("source", rng.randrange(plan_size)))
-        return ("arrive_from", ("merger", rng.randrange(mergers)))
-    if word == "settle":
-        return ("settle_all",) if rng.random() < 0.4 else ("close_source", rng.randrange(plan_size))
-    return ("undo_last",)
+    source, merger = rng.randrange(many), rng.randrange(mergers)
+    return rng.choice([
+        ("put_number", source, rng.choice(numbers)), ("put_number", source, rng.choice(numbers)),
+        ("put_number", source, rng.choice(numbers)), ("put_number", source, rng.choice(numbers)),
+        ("arrive_from", ("source", source)), ("arrive_from", ("source", source)),
+        ("arrive_from", ("merger", merger)), ("arrive_from", ("merger", merger)),
+        ("close_source", source) if rng.random() < 0.5 else ("undo_last",),
+        ("settle_all",) if rng.random() < 0.3 else ("undo_last",),
+    ])
 
 
-def changing_call(rng, net, many, unused):
-    """A call of this net that raises no error: a put, a closing, an arrival or settle_all."""
+def changing_call(rng, net, unused):
+    """A call of this net that raises no error: a put, a closing, an arrival or settle_all.
+
+    A number that is put is taken from the end of the list of unused ones.
+    """
     moving = [lane for lane, _, _ in net.on_the_way()]
     unclosed = net.family_so_far()[1]
-    choices = [("settle_all",)] if rng.random() < 0.05 else []
-    if unused and unclosed:
-        choices.extend([("put_number", rng.choice(unclosed), unused[-1])] * 3)
-    if unclosed and rng.random() < 0.1 * len(unclosed) / many:
-        choices.append(("close_source", rng.choice(unclosed)))
-    if moving:
-        choices.extend([("arrive_from", rng.choice(moving))] * 4)
-    call = rng.choice(choices or [("settle_all",)])
-    if call[0] == "put_number":
-        unused.pop()
-    return call
+    if unclosed and rng.random() < 0.03:
+        return ("close_source", rng.choice(unclosed))
+    if unclosed and unused and rng.random() < 0.45:
+        return ("put_number", rng.choice(unclosed), unused.pop())
+    if moving and rng.random() < 0.96:
+        return ("arrive_from", rng.choice(moving))
+    return ("settle_all",)

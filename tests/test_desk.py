@@ -260,7 +260,7 @@ class SideBySideTest(DeskCase):
                 one.execute(f"net {show_plan(plan)}")
             unused = some_numbers(rng, 60, "random")
             for _ in range(120):
-                call = changing_call(rng, other.net, len(sources_in(plan)), unused)
+                call = changing_call(rng, other.net, unused)
                 self.assertEqual(desk.execute(row_of(call)), other.execute(row_of(call)))
                 self.assertEqual(all_said(desk, mergers), all_said(other, mergers))
             for _ in range(120):
@@ -339,7 +339,7 @@ class WholeFamilyTest(DeskCase):
             desk, net = told_desk([f"net {show_plan(plan)}"]), Net(plan)
             unused = some_numbers(rng, 60, "random")
             for _ in range(150):
-                call = changing_call(rng, net, len(sources_in(plan)), unused)
+                call = changing_call(rng, net, unused)
                 getattr(net, call[0])(*call[1:])
                 desk.execute(row_of(call))
                 result, certain = desk.execute("result"), desk.execute("certain")
@@ -477,7 +477,7 @@ class ErrorTest(DeskCase):
             views = []
             for _ in range(300):
                 views.append(all_said(desk, mergers))
-                call = changing_call(rng, net, len(sources_in(plan)), unused)
+                call = changing_call(rng, net, unused)
                 getattr(net, call[0])(*call[1:])
                 desk.execute(row_of(call))
             self.assertEqual(desk.execute("result"), queue_text(net.result_so_far()))

@@ -10,6 +10,7 @@ from helpers import snapshot, some_numbers
 from leastheads import errors
 from leastheads.nets import Net
 from leastheads.opens import certain_beginning, exhausted_queues
+from leastheads.plans import inputs_of
 from net_helpers import Model, changing_call, count_mergers, some_call, told, view_of
 from plan_helpers import FLAT, NO_PLANS, PLANS, deep_plan, some_plan, sources_in, text_order
 
@@ -186,10 +187,9 @@ class ModelTest(NetCase):
         rng = random.Random(202)
         for plan in PLANS + [some_plan(rng, rng.randint(1, 12)) for _ in range(20)]:
             net, model = self.pair(plan)
-            many = len(sources_in(plan))
             unused = some_numbers(rng, 60, rng.choice(["random", "ascending", "descending"]))
             for _ in range(150):
-                self.same_answer(net, model, changing_call(rng, model, many, unused))
+                self.same_answer(net, model, changing_call(rng, model, unused))
                 self.same_view(net, model, count_mergers(plan))
 
     def test_every_short_row_of_calls(self):
@@ -227,10 +227,9 @@ class ResultTest(NetCase):
         rng = random.Random(211)
         for plan in PLANS * 2 + [some_plan(rng, rng.randint(1, 12)) for _ in range(30)]:
             net = Net(plan)
-            many = len(sources_in(plan))
             unused = some_numbers(rng, 50, rng.choice(["random", "ascending", "descending", "nearly"]))
             for _ in range(150):
-                self.assertNotIsInstance(told(net, changing_call(rng, net, many, unused)), type)
+                self.assertNotIsInstance(told(net, changing_call(rng, net, unused)), type)
                 family, unclosed = net.family_so_far()
                 certain = certain_beginning(family, unclosed)
                 result = net.result_so_far()
@@ -242,11 +241,10 @@ class ResultTest(NetCase):
         rng = random.Random(212)
         for plan in PLANS + [some_plan(rng, rng.randint(1, 12)) for _ in range(30)]:
             net = Net(plan)
-            many = len(sources_in(plan))
             unused = some_numbers(rng, 40, "random")
             for _ in range(60):
                 before = net.result_so_far()
-                told(net, changing_call(rng, net, many, unused))
+                told(net, changing_call(rng, net, unused))
                 appended = net.settle_all()
                 family, unclosed = net.family_so_far()
                 self.assertEqual(net.on_the_way(), [])
@@ -283,7 +281,7 @@ class ResultTest(NetCase):
             net = Net(plan)
             unused = some_numbers(rng, 40, "random")
             for _ in range(100):
-                told(net, changing_call(rng, net, len(sources_in(plan)), unused))
+                told(net, changing_call(rng, net, unused))
                 found = net.result_so_far()
                 found.extend(number for _, numbers, _ in net.on_the_way() for number in numbers)
                 for merger in range(count_mergers(plan)):
@@ -310,14 +308,19 @@ class ResultTest(NetCase):
 class InnerTest(NetCase):
     """The mergers inside a net."""
 
-    def test_each_merger_is_as_a_net_of_its_own(self):
-        rng = random.Random(221)
+    def settled_nets(self, seed):
+        """Plans with nets to which calls were made until nothing was on its way."""
+        rng = random.Random(seed)
         for plan in PLANS + [some_plan(rng, rng.randint(2, 12)) for _ in range(40)]:
             net = Net(plan)
             unused = some_numbers(rng, 60, "random")
             for _ in range(120):
-                told(net, changing_call(rng, net, len(sources_in(plan)), unused))
+                told(net, changing_call(rng, net, unused))
             net.settle_all()
+            yield plan, net
+
+    def test_each_merger_is_as_a_net_of_its_own(self):
+        for plan, net in self.settled_nets(221):
             family, unclosed = net.family_so_far()
             for number, part in enumerate(text_order(plan)):
                 sources = sources_in(part)
@@ -327,68 +330,27 @@ class InnerTest(NetCase):
                         inner.put_number(index, one)
                     if source not in unclosed:
                         inner.close_source(index)
-                passed = inner.settle_all()
-                self.assertEqual(net.held_at(number), inner.held_at(0))
-                self.assertEqual(len(net.waits_for(number)), len(inner.waits_for(0)))
                 own = [family[source] for source in sources]
                 still = [index for index, source in enumerate(sources) if source in unclosed]
-                self.assertEqual(passed, certain_beginning(own, still))
+                self.assertEqual(inner.settle_all(), certain_beginning(own, still))
                 self.assertEqual(inner.is_finished(), still == [])
+                self.assertEqual(net.held_at(number), inner.held_at(0))
+                self.assertEqual(len(net.waits_for(number)), len(inner.waits_for(0)))
 
     def test_a_merger_waits_as_its_inputs_are_exhausted(self):
-        rng = random.Random(222)
-        for plan in PLANS + [some_plan(rng, rng.randint(2, 12)) for _ in range(40)]:
-            net = Net(plan)
-            unused = some_numbers(rng, 60, "random")
-            for _ in range(120):
-                told(net, changing_call(rng, net, len(sources_in(plan)), unused))
-            net.settle_all()
+        for plan, net in self.settled_nets(222):
             family, unclosed = net.family_so_far()
-            passed = {}
-            for number, part in reversed(list(enumerate(text_order(plan)))):
-                queues, still, lanes = self.inputs(part, family, unclosed, passed, plan)
+            # For each lane all that came through it, and whether its closing mark did.
+            came = {("source", source): (queue, source not in unclosed) for source, queue in enumerate(family)}
+            for number, lanes in reversed(list(enumerate(inputs_of(plan)))):
+                queues = [came[lane][0] for lane in lanes]
+                still = [index for index, lane in enumerate(lanes) if not came[lane][1]]
+                beginning = certain_beginning(queues, still)
+                came[("merger", number)] = (beginning, still == [])
                 expected = [lanes[index] for index in exhausted_queues(queues, still)]
                 self.assertEqual(net.waits_for(number), expected)
-                beginning = certain_beginning(queues, still)
-                passed[number] = (beginning, still == [])
-                left = sorted(set(sum(queues, [])) - set(beginning))
-                self.assertEqual(net.held_at(number), left)
-
-    def inputs(self, part, family, unclosed, passed, plan):
-        """What has come to the inputs of a merger in all, which of them may go on, and their lanes."""
-        numbers = {repr(one): number for number, one in enumerate(text_order(plan))}
-        queues, still, lanes = [], [], []
-        for index, inner in enumerate(part):
-            if isinstance(inner, list):
-                queue, is_over = passed[numbers[repr(inner)]]
-                lanes.append(("merger", numbers[repr(inner)]))
-            else:
-                queue, is_over = family[inner], inner not in unclosed
-                lanes.append(("source", inner))
-            queues.append(queue)
-            if not is_over:
-                still.append(index)
-        return queues, still, lanes
-
-    def test_what_leaves_a_merger_is_seen_in_its_lane(self):
-        rng = random.Random(223)
-        for plan in [TREE, [[0, 1], [2, 3]], deep_plan(8), nested(8, 0), [[[0, 1], 2], [3, [4]]]]:
-            net = Net(plan)
-            unused = some_numbers(rng, 30, "random")
-            while unused:
-                told(net, changing_call(rng, net, len(sources_in(plan)), unused))
-                if not net.family_so_far()[1]:
-                    break
-            for lane, numbers, is_closing in net.on_the_way():
-                if lane[0] == "merger":
-                    part = text_order(plan)[lane[1]]
-                    family, unclosed = net.family_so_far()
-                    own = [family[source] for source in sources_in(part)]
-                    result = certain_beginning(own, [
-                        index for index, source in enumerate(sources_in(part)) if source in unclosed])
-                    begin = result.index(numbers[0]) if numbers else len(result)
-                    self.assertEqual(result[begin:begin + len(numbers)], numbers)
-                    self.assertFalse(is_closing and begin + len(numbers) < len(result))
+                left = {number for queue in queues for number in queue} - set(beginning)
+                self.assertEqual(net.held_at(number), sorted(left))
 
 
 def renumbered(part, sources):
@@ -407,7 +369,7 @@ class UndoTest(NetCase):
             unused = some_numbers(rng, 150, "random")
             views = [view_of(net, mergers)]
             for _ in range(300):
-                self.assertNotIsInstance(told(net, changing_call(rng, net, len(sources_in(plan)), unused)), type)
+                self.assertNotIsInstance(told(net, changing_call(rng, net, unused)), type)
                 views.append(view_of(net, mergers))
             while len(views) > 1:
                 self.assertEqual(view_of(net, mergers), views.pop())
@@ -493,7 +455,7 @@ class UndoTest(NetCase):
                     call, _ = kept.pop()
                     net.undo_last()
                 else:
-                    call = changing_call(rng, net, len(sources_in(plan)), unused)
+                    call = changing_call(rng, net, unused)
                     kept.append((call, told(net, call)))
             again = Net(plan)
             for call, answer in kept:
@@ -606,7 +568,7 @@ class ErrorTest(NetCase):
                 for wrong in (("put_number", many, 1), ("put_number", 0, "1"), ("arrive_from", ("merger", 0)),
                               ("close_source", -1), ("waits_for", None), ("held_at", mergers)):
                     self.assertIsInstance(told(one, wrong), type)
-                call = changing_call(rng, other, many, unused)
+                call = changing_call(rng, other, unused)
                 self.assertEqual(told(one, call), told(other, call))
                 self.assertEqual(view_of(one, mergers), view_of(other, mergers))
             for _ in range(80):
@@ -623,7 +585,7 @@ class NewListsTest(NetCase):
             one, other = Net(plan), Net(plan)
             unused = some_numbers(rng, 40, "random")
             for _ in range(80):
-                call = changing_call(rng, other, len(sources_in(plan)), unused)
+                call = changing_call(rng, other, unused)
                 answer = told(one, call)
                 self.assertEqual(answer, told(other, call))
                 self.spoil([answer])
